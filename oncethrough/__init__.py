@@ -1,0 +1,1 @@
+"""Oncethrough: papers for yes and for no that are read once with few cells."""
