@@ -18,3 +18,22 @@ def told(error):
     attributes = dict(vars(error))
     code = attributes.pop("code")
     return code, attributes
+
+
+def plain(store):
+    """A store as the second way of writing things out takes it."""
+    return store.size, {name: set(store.rows_of(name)) for name in store.tables()}
+
+
+def mutants(marks, size):
+    """Lists that come from these marks by one mark changed, left out, put in or doubled."""
+    found = []
+    for at in range(len(marks) + 1):
+        for mark in range(size + 1):
+            found.append([*marks[:at], mark, *marks[at:]])
+    for at, old in enumerate(marks):
+        found.append([*marks[:at], *marks[at + 1:]])
+        for mark in (*range(size + 1), -1):
+            if mark != old:
+                found.append([*marks[:at], mark, *marks[at + 1:]])
+    return found

@@ -6,6 +6,8 @@ import unittest
 
 FUNCTIONS = {
     "words": {"is_name": ["value"], "is_number": ["value", "least", "most"]},
+    "meaning": {"truth": ["store", "question", "inputs"]},
+    "papers": {"is_paper": ["store", "question", "inputs", "marks"], "looks_of": ["store", "question", "inputs", "marks"]},
 }
 
 # For each class its methods with their parameters; None stands for any number of arguments.
@@ -19,6 +21,21 @@ CLASSES = {
         "__init__": ["names", "saying"], "tables": [], "denied": [], "__and__": ["other"], "__or__": ["other"],
         "grows": [], "text": [], "__eq__": ["other"], "__repr__": [],
     },
+    ("weights", "Weigher"): {
+        "__init__": ["store", "question"], "least": ["inputs", "yes"], "counted": ["inputs", "most", "yes"],
+        "first": ["inputs", "yes"],
+    },
+    ("readers", "Reader"): {
+        "__init__": ["cells", "rows", "inputs"], "tables": [], "__len__": [], "__eq__": ["other"], "__repr__": [], "page": [],
+    },
+}
+
+# Parameters that are passed by name alone, with their defaults.
+BY_NAME = {
+    ("weights", "Weigher", "least"): {"yes": True},
+    ("weights", "Weigher", "counted"): {"most": 20, "yes": True},
+    ("weights", "Weigher", "first"): {"yes": True},
+    ("readers", "Reader", "__init__"): {"inputs": 0},
 }
 
 
@@ -44,13 +61,21 @@ class Interface(unittest.TestCase):
                     self.assertEqual(list(inspect.signature(vars(found)[method]).parameters)[1:], parameters)
 
     def test_static_methods(self):
-        for name, made in CLASSES:
+        for name, made in (("stores", "Store"), ("questions", "Question"), ("readers", "Reader")):
             read = vars(getattr(module(name), made))["read"]
             self.assertIsInstance(read, staticmethod)
             self.assertEqual(list(inspect.signature(read.__func__).parameters), ["text"])
 
+    def test_what_is_passed_by_name_alone(self):
+        for (name, made), methods in CLASSES.items():
+            for method in methods:
+                parameters = inspect.signature(vars(getattr(module(name), made))[method]).parameters.values()
+                found = {each.name: each.default for each in parameters if each.kind is inspect.Parameter.KEYWORD_ONLY}
+                self.assertEqual(found, BY_NAME.get((name, made, method), {}))
+
     def test_class_values(self):
         self.assertEqual(vars(module("stores").Store)["MOST"], 8)
+        self.assertEqual(vars(module("readers").Reader)["MOST"], 10000)
 
 
 if __name__ == "__main__":
