@@ -36,6 +36,12 @@ def check_steps(rows, cells):
         raise InvalidStep(len(rows) - 1)
 
 
+def table_uses_of(rows):
+    """The names of the tables at which rows look, with their numbers of places."""
+    uses = [use for row in rows for use in tables_at(row).items()]
+    return {name: places for name, places in sorted(uses)}
+
+
 class Reader:
     """Cells, rows and a number of inputs. A reader never changes."""
 
@@ -47,11 +53,12 @@ class Reader:
         self.cells = tuple(cells)
         self.rows = tuple(rows)
         self.inputs = inputs
+        # Each reading asks for these, and there may be many readings and rows.
+        self._tables = table_uses_of(self.rows)
 
     def tables(self):
         """The names of the tables that occur, with their numbers of places."""
-        uses = [use for row in self.rows for use in tables_at(row).items()]
-        return {name: places for name, places in sorted(uses)}
+        return {name: self._tables[name] for name in self._tables}
 
     def page(self):
         """The page of the reader."""

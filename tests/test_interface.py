@@ -8,6 +8,15 @@ FUNCTIONS = {
     "words": {"is_name": ["value"], "is_number": ["value", "least", "most"]},
     "meaning": {"truth": ["store", "question", "inputs"]},
     "papers": {"is_paper": ["store", "question", "inputs", "marks"], "looks_of": ["store", "question", "inputs", "marks"]},
+    "readings": {"verdict": ["reader", "store", "inputs", "marks"]},
+    "compiling": {"compiled": ["question"]},
+    "leaning": {"needed": ["reader"], "lean": ["reader"]},
+    "exploring": {
+        "shortest": ["reader", "store", "inputs"], "closed_list": ["reader", "store", "inputs"],
+        "is_closed": ["reader", "store", "inputs", "stops"], "counted_papers": ["reader", "store", "inputs", "most"],
+        "papers_of": ["reader", "store", "inputs", "length"], "numbered": ["reader", "store", "inputs", "length", "at"],
+        "place_of": ["reader", "store", "inputs", "marks"], "parted": ["one", "other", "store", "inputs"],
+    },
 }
 
 # For each class its methods with their parameters; None stands for any number of arguments.
@@ -28,6 +37,10 @@ CLASSES = {
     ("readers", "Reader"): {
         "__init__": ["cells", "rows", "inputs"], "tables": [], "__len__": [], "__eq__": ["other"], "__repr__": [], "page": [],
     },
+    ("readings", "Reading"): {
+        "__init__": ["reader", "store", "inputs"], "put": None, "__bool__": [], "stop": [], "twin": [],
+    },
+    ("readings", "Recorded"): {"__init__": ["reader", "store", "inputs"], "seen": [], "twin": []},
 }
 
 # Parameters that are passed by name alone, with their defaults.
@@ -36,6 +49,11 @@ BY_NAME = {
     ("weights", "Weigher", "counted"): {"most": 20, "yes": True},
     ("weights", "Weigher", "first"): {"yes": True},
     ("readers", "Reader", "__init__"): {"inputs": 0},
+}
+
+STATIC = {
+    ("stores", "Store", "read"): ["text"], ("questions", "Question", "read"): ["text"], ("readers", "Reader", "read"): ["text"],
+    ("readings", "Reading", "taken"): ["reader", "store", "row", "cells"],
 }
 
 
@@ -61,10 +79,10 @@ class Interface(unittest.TestCase):
                     self.assertEqual(list(inspect.signature(vars(found)[method]).parameters)[1:], parameters)
 
     def test_static_methods(self):
-        for name, made in (("stores", "Store"), ("questions", "Question"), ("readers", "Reader")):
-            read = vars(getattr(module(name), made))["read"]
-            self.assertIsInstance(read, staticmethod)
-            self.assertEqual(list(inspect.signature(read.__func__).parameters), ["text"])
+        for (name, made, method), parameters in STATIC.items():
+            found = vars(getattr(module(name), made))[method]
+            self.assertIsInstance(found, staticmethod)
+            self.assertEqual(list(inspect.signature(found.__func__).parameters), parameters)
 
     def test_what_is_passed_by_name_alone(self):
         for (name, made), methods in CLASSES.items():
@@ -72,6 +90,13 @@ class Interface(unittest.TestCase):
                 parameters = inspect.signature(vars(getattr(module(name), made))[method]).parameters.values()
                 found = {each.name: each.default for each in parameters if each.kind is inspect.Parameter.KEYWORD_ONLY}
                 self.assertEqual(found, BY_NAME.get((name, made, method), {}))
+
+    def test_what_functions_take_by_name_alone(self):
+        for name, functions in FUNCTIONS.items():
+            for function in functions:
+                parameters = inspect.signature(getattr(module(name), function)).parameters.values()
+                found = {each.name: each.default for each in parameters if each.kind is inspect.Parameter.KEYWORD_ONLY}
+                self.assertEqual(found, {"most": 20} if function == "counted_papers" else {})
 
     def test_class_values(self):
         self.assertEqual(vars(module("stores").Store)["MOST"], 8)
