@@ -17,6 +17,10 @@ FUNCTIONS = {
         "papers_of": ["reader", "store", "inputs", "length"], "numbered": ["reader", "store", "inputs", "length", "at"],
         "place_of": ["reader", "store", "inputs", "marks"], "parted": ["one", "other", "store", "inputs"],
     },
+    "opposites": {"opposite": ["reader"], "denial_length": ["reader", "store", "inputs"],
+                  "denial": ["reader", "store", "inputs"]},
+    "judging": {"judge": ["reader", "question", "size"], "loosened": ["reader", "at"]},
+    "desk": {"claims_table": ["shelf"]},
 }
 
 # For each class its methods with their parameters; None stands for any number of arguments.
@@ -41,6 +45,16 @@ CLASSES = {
         "__init__": ["reader", "store", "inputs"], "put": None, "__bool__": [], "stop": [], "twin": [],
     },
     ("readings", "Recorded"): {"__init__": ["reader", "store", "inputs"], "seen": [], "twin": []},
+    ("judging", "Verdict"): {"__init__": ["word"]},
+    ("judging", "Right"): {"__init__": ["pairs"]},
+    ("judging", "Cheated"): {"__init__": ["store", "inputs", "marks"]},
+    ("judging", "Silent"): {"__init__": ["store", "inputs"]},
+    ("shelves", "Claim"): {"__init__": ["question", "inputs", "marks", "looks"]},
+    ("shelves", "Shelf"): {
+        "__init__": ["store"], "do": None, "undo": [], "redo": [], "claimed": [], "doubtful": [], "claim": ["name"],
+        "stands": ["name"], "__contains__": ["name"], "__len__": [], "__eq__": ["other"], "twin": [], "page": [],
+    },
+    ("desk", "Desk"): {"__init__": ["shelf"], "answer": ["line"]},
 }
 
 # Parameters that are passed by name alone, with their defaults.
@@ -53,7 +67,7 @@ BY_NAME = {
 
 STATIC = {
     ("stores", "Store", "read"): ["text"], ("questions", "Question", "read"): ["text"], ("readers", "Reader", "read"): ["text"],
-    ("readings", "Reading", "taken"): ["reader", "store", "row", "cells"],
+    ("readings", "Reading", "taken"): ["reader", "store", "row", "cells"], ("shelves", "Shelf", "read"): ["text"],
 }
 
 
