@@ -136,16 +136,16 @@ class Writer:
         build.check(("same", ends[0], last), True)
         build.write(("zero", ends[0]))
         if form.most is not None:
-            build.write(("zero", self._steps(form)))
+            build.write(("zero", self._steps_cell(form)))
         build.write(("jump", behind))
         build.begin_one(more)
         if form.most is not None:
-            build.write(("up", self._steps(form)))
+            build.write(("up", self._steps_cell(form)))
         self.take_step(form, scope, ends)
         build.write(("jump", again))
         build.here(behind)
 
-    def _steps(self, form):
+    def _steps_cell(self, form):
         """The cell that cannot hold more steps than may be taken."""
         return self.own(form, "steps", form.most + 1)
 

@@ -40,7 +40,7 @@ def set_bits(row):
     return bits_of(row[1:2]) if row[0] in SETTING else 0
 
 
-def rows_behind(rows, at):
+def followers(rows, at):
     """The rows that follow a row."""
     row = rows[at]
     behind = [] if row[0] in LAST_WORDS else [at + 1]
@@ -51,7 +51,7 @@ def needed_bits(rows):
     """For each row the cells that are needed at it."""
     ahead = [[] for _ in rows]
     for at in range(len(rows)):
-        for after in rows_behind(rows, at):
+        for after in followers(rows, at):
             ahead[after].append(at)
     kept = [~set_bits(row) for row in rows]
     needs = [used_bits(row) for row in rows]
@@ -73,7 +73,7 @@ def clash_bits(rows, many):
     found = [needs[0] if needs[0] >> cell & 1 == 1 else 0 for cell in range(many)]
     for at, row in enumerate(rows):
         if row[0] in SETTING:
-            for after in rows_behind(rows, at):
+            for after in followers(rows, at):
                 found[row[1]] = found[row[1]] | needs[after]
     for cell in range(many):
         others = cells_in(found[cell])
@@ -88,7 +88,7 @@ def reached_rows(rows):
     waiting = [0]
     while waiting != []:
         at = waiting.pop()
-        for after in rows_behind(rows, at):
+        for after in followers(rows, at):
             if after not in reached:
                 reached[after] = True
                 waiting.append(after)

@@ -102,16 +102,14 @@ class Shelf:
         return len(self._claims)
 
     def __eq__(self, other):
-        return isinstance(other, Shelf) and self.store == other.store and self._told() == other._told()
-
-    def _told(self):
-        """All that tells one shelf from another, beside the store."""
-        return {name: told_of(self._claims[name]) for name in self._claims}
+        return (isinstance(other, Shelf) and self.store == other.store
+                and told_of(self._claims) == told_of(other._claims))
 
 
-def told_of(claim):
-    """All that tells one claim from another."""
-    return claim.question.names, claim.question.saying, claim.inputs, claim.marks, claim.looks
+def told_of(claims):
+    """For each name all that tells its claim from another one."""
+    return {name: (claims[name].question.names, claims[name].question.saying, claims[name].inputs, claims[name].marks,
+                   claims[name].looks) for name in claims}
 
 
 def claim_named(claims, name):

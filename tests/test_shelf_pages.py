@@ -199,6 +199,9 @@ class NoPages(unittest.TestCase):
         for line in ("claim far", "claim a", "claim faq", "claim fa"):
             self.check(exchanged(13, line), 13)
         self.assertEqual(Shelf.read("\n".join(exchanged(13, "claim fas"))).claimed(), ["far", "fas", "some"])
+        # Not greater than the name ahead, though greater than the first one.
+        for line in ("claim near", "claim g", "claim nea"):
+            self.check(exchanged(18, line), 18)
 
     def test_the_line_of_a_question(self):
         for line in ("", "a", "a b", "a b : link road a", "a b : link sea a b", "a b : has road a", "a b : link red a b",
